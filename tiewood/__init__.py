@@ -1,0 +1,1 @@
+"""Tiewood: ties at levels, and the work of looking counted."""
