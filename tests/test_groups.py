@@ -2,6 +2,7 @@ import itertools
 import random
 import unittest
 
+from plain import plain_groups
 from tiewood.groups import groups, shortest, steps
 
 
@@ -40,15 +41,6 @@ def larger_cases():
     yield 200, [(k, 199) for k in range(199)]
     yield 200, [(k, 199 - k) for k in range(100)]
     yield 45, all_ties(45)
-
-
-def plain_groups(n, ties):
-    # By names of groups that are made alike tie by tie: another road than the program's.
-    name = list(range(n))
-    for a, b in ties:
-        old, new = name[a], name[b]
-        name = [new if each == old else each for each in name]
-    return sorted([place for place in range(n) if name[place] == each] for each in set(name))
 
 
 def plain_steps(n, ties, a):
