@@ -1,8 +1,7 @@
 import unittest
 
+from plain import REFUSALS
 from tiewood import errors
-
-REFUSALS = ("NoCount", "NoPlace", "Alike", "Joined", "Tied", "NoTie", "NoRow", "Fixed")
 
 
 class Errors(unittest.TestCase):

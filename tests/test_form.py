@@ -141,6 +141,16 @@ def is_taken_by_except(file, node):
     return isinstance(file.above[above] if isinstance(above, ast.Tuple) else above, ast.ExceptHandler)
 
 
+def is_call_of_base(file, node):
+    begin = file.above[node]
+    call = file.above[begin]
+    if not (isinstance(begin, ast.Attribute) and begin.attr == "__init__" and isinstance(call, ast.Call)):
+        return False
+    while not isinstance(call, (ast.ClassDef, ast.Module)):
+        call = file.above[call]
+    return isinstance(call, ast.ClassDef) and [ast.dump(base) for base in call.bases] == [ast.dump(node)]
+
+
 def imports(file):
     for node in file.all(ast.ImportFrom):
         if node not in file.tree.body:
@@ -231,7 +241,7 @@ def uses_of_classes(file):
     for node in file.all(ast.Name):
         if node.id in file.classes() and isinstance(node.ctx, ast.Load):
             above = file.above[node]
-            called = isinstance(above, ast.Call) and above.func is node
+            called = isinstance(above, ast.Call) and above.func is node or is_call_of_base(file, node)
             if not (called or isinstance(above, ast.ClassDef) or is_asked_by_isinstance(file, node)
                     or is_taken_by_except(file, node)):
                 yield "L18: the class " + node.id
@@ -525,6 +535,7 @@ OUTSIDE = {
     "L18": ("class A:\n    pass\n\n\ndef f():\n    return A", "class A:\n    pass\n\n\ndef f():\n    A.x = 1",
             "class A:\n    def b(self):\n        pass\n\n\nclass C:\n    def __init__(self):\n        self.b = 1",
             "class A(StopIteration):\n    pass",
+            "class A:\n    pass\n\n\nclass B:\n    def __init__(self):\n        A.__init__(self)",
             "class A:\n    def b(self):\n        pass\n\n    def b(self):\n        pass"),
     "L19": ("def f(a):\n    try:\n        a()\n    except Exception:\n        pass", "def f(e):\n    raise e",
             "def f(a):\n    try:\n        a()\n    except ValueError:\n        pass",
@@ -558,6 +569,8 @@ INSIDE = (
     "        raise A('words') from e",
     "class A:\n    def __init__(self, n):\n        self.count = n\n        self.rows = [[] for row in range(n)]\n\n"
     "    def add(self, a):\n        self.rows[a].append(a)\n        self.count += 1",
+    "class A:\n    def __init__(self, n):\n        self.count = n\n\n\nclass B(A):\n"
+    "    def __init__(self, n):\n        A.__init__(self, n)",
     "def f(a):\n    told = {}\n    for b, c in enumerate(a):\n        told[c] = b\n"
     "    return sorted(told, key=lambda b: told[b])",
     "def f(a, b):\n    return len(set(a)) == 2 and set(a) == set(b) and a[0] in set(b) "

@@ -41,6 +41,36 @@ CLASSES = {
             "ties": ["self"],
         },
     },
+    "tiewood.keeper": {
+        "Keeper": {
+            "__init__": ["self", "n"],
+            "put": ["self", "a", "b"],
+            "out": ["self", "a", "b"],
+            "joined": ["self", "a", "b"],
+            "way": ["self", "a", "b"],
+            "side": ["self", "a"],
+            "ties": ["self"],
+            "account": ["self"],
+        },
+    },
+    "tiewood.lightest": {
+        "Lightest": {
+            "__init__": ["self", "n", "weighed"],
+            "out": ["self", "a", "b"],
+            "joined": ["self", "a", "b"],
+            "way": ["self", "a", "b"],
+            "side": ["self", "a"],
+            "ties": ["self"],
+            "weight": ["self"],
+            "account": ["self"],
+        },
+    },
+    "tiewood.desk": {
+        "Desk": {
+            "__init__": ["self"],
+            "say": ["self", "row"],
+        },
+    },
 }
 
 

@@ -2,16 +2,8 @@ import itertools
 import random
 import unittest
 
-from plain import only_way, plain_groups, random_tree
-from tiewood import errors
+from plain import RefusalCase, no_places, only_way, plain_groups, random_tree
 from tiewood.woods import Wood
-
-REFUSALS = ("NoCount", "NoPlace", "Alike", "Joined", "Tied", "NoTie", "NoRow", "Fixed")
-HUGE = 10 ** 299 + 7
-
-
-def no_places(n):
-    return (True, False, None, "", "0", "1", "a", -1, -2, -n, n, n + 1, 2 * n, HUGE, -HUGE)
 
 
 def wood_of(n, ties):
@@ -32,7 +24,7 @@ def all_told(wood, n):
     )
 
 
-class WoodCase(unittest.TestCase):
+class WoodCase(RefusalCase):
     def check_places(self, wood, n, ties):
         self.assertEqual(wood.ties(), sorted(ties))
         for group in plain_groups(n, ties):
@@ -52,12 +44,6 @@ class WoodCase(unittest.TestCase):
         self.check_places(wood, n, ties)
         for a, b in itertools.product(range(n), repeat=2):
             self.check_pair(wood, n, ties, a, b)
-
-    def refused(self, name, ask, *things):
-        with self.assertRaises(errors.TieError, msg=(name, things)) as taken:
-            ask(*things)
-        under = [each for each in REFUSALS if isinstance(taken.exception, getattr(errors, each))]
-        self.assertEqual(under, [name], things)
 
 
 class AtFirst(WoodCase):

@@ -4,6 +4,10 @@ from tiewood.places import top
 from tiewood.woods import Wood
 
 
+def in_order(ties, weight_of):
+    return sorted(ties, key=lambda tie: (weight_of[tie], tie))
+
+
 def ends_within(tie, side):
     return len([place for place in tie if place in side])
 
@@ -12,12 +16,15 @@ class Levels:
     def __init__(self, n):
         self.level_of = {}
         self.wooden = {}
+        # Ties without weights are all given the same one, so that the order of the places alone is left.
+        self.weight_of = {}
         # For each level the ties in the wood that have it or a higher one.
         self.woods = [Wood(n) for level in range(top(n) + 1)]
 
-    def add(self, tie):
+    def add(self, tie, weight):
         self.level_of[tie] = 0
         self.wooden[tie] = False
+        self.weight_of[tie] = weight
         if not self.woods[0].joined(tie[0], tie[1]):
             self.adopt(tie)
         return self.wooden[tie]
@@ -33,6 +40,7 @@ class Levels:
             self.woods[self.level_of[tie]].link(tie[0], tie[1])
 
     def drop(self, tie):
+        self.weight_of.pop(tie)
         level = self.level_of.pop(tie)
         if self.wooden.pop(tie):
             for wood in self.woods[:level + 1]:
@@ -40,7 +48,10 @@ class Levels:
 
     def at_level(self, level, wooden):
         ties = [tie for tie in self.level_of if self.level_of[tie] == level]
-        return sorted([tie for tie in ties if self.wooden[tie] == wooden])
+        return in_order([tie for tie in ties if self.wooden[tie] == wooden], self.weight_of)
+
+    def told(self, tie):
+        return (tie[0], tie[1], self.level_of[tie], self.wooden[tie])
 
     def lesser_side(self, level, tie):
         wood = self.woods[level]
